@@ -1,0 +1,1 @@
+"""Stillinstep: programs done in step by workers that stop at any moment."""

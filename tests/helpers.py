@@ -1,0 +1,59 @@
+"""What several test files need."""
+
+import copy
+
+from stillinstep.lines import read_program
+from stillinstep.reading import read_expression
+
+
+class FakeProgram:
+    """Has the fields of a program, for what must hold for any program."""
+
+    def __init__(self, lanes, arrays, body=()):
+        self.lanes = lanes
+        self.arrays = arrays
+        self.body = body
+
+    def __eq__(self, other):
+        return vars(self) == vars(other)
+
+
+def ex(text):
+    """The expression of a text."""
+    return read_expression(text)
+
+
+def program(*lines):
+    """The program with these lines."""
+    return read_program("\n".join(lines))
+
+
+def is_plain(value):
+    """Whether it is a number (not a bool), a string, None, or a tuple of such at every level."""
+    if type(value) is tuple:
+        return all(is_plain(item) for item in value)
+    return value is None or type(value) in (int, str)
+
+
+def check_plain(test, value):
+    """Fails the test unless the value consists of tuples, numbers, strings and None alone."""
+    test.assertTrue(is_plain(value), value)
+
+
+def check_unchanged(test, function, *arguments, **named):
+    """Calls the function, fails the test if what is passed does not stay as it was, returns the result."""
+    before = copy.deepcopy((arguments, named))
+    result = function(*arguments, **named)
+    test.assertEqual(before, (arguments, named))
+    return result
+
+
+def check_raises(test, error, fields, function, *arguments, **named):
+    """Fails the test unless just this class is raised, with these fields (a dict)."""
+    with test.assertRaises(error) as caught:
+        function(*arguments, **named)
+    test.assertIs(type(caught.exception), error)
+    for field, wanted in fields.items():
+        value = getattr(caught.exception, field)
+        test.assertEqual((field, value), (field, wanted))
+        test.assertIs(type(value), type(wanted))
