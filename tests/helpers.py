@@ -1,8 +1,7 @@
 """What several test files need."""
 
-import copy
-
 from stillinstep.lines import read_program
+from stillinstep.machines import REGIONS
 from stillinstep.reading import read_expression
 
 
@@ -40,11 +39,22 @@ def check_plain(test, value):
     test.assertTrue(is_plain(value), value)
 
 
+def laid_bare(value):
+    """A value as plain values of its own, with its kind and, for an object, its fields."""
+    if isinstance(value, (list, tuple)):
+        return type(value), [laid_bare(item) for item in value]
+    if isinstance(value, dict):
+        return dict, [(key, laid_bare(item)) for key, item in value.items()]
+    if hasattr(value, "__dict__"):
+        return type(value), laid_bare(vars(value))
+    return type(value), value
+
+
 def check_unchanged(test, function, *arguments, **named):
     """Calls the function, fails the test if what is passed does not stay as it was, returns the result."""
-    before = copy.deepcopy((arguments, named))
+    before = laid_bare((arguments, named))
     result = function(*arguments, **named)
-    test.assertEqual(before, (arguments, named))
+    test.assertEqual(before, laid_bare((arguments, named)))
     return result
 
 
@@ -57,3 +67,14 @@ def check_raises(test, error, fields, function, *arguments, **named):
         value = getattr(caught.exception, field)
         test.assertEqual((field, value), (field, wanted))
         test.assertIs(type(value), type(wanted))
+
+
+def with_region(cells, region, numbers):
+    """The cells with these numbers in a region."""
+    at = REGIONS.index(region)
+    return (*cells[:at], tuple(numbers), *cells[at + 1:])
+
+
+def region_of(cells, region):
+    """The numbers of a region."""
+    return cells[REGIONS.index(region)]

@@ -1,14 +1,25 @@
-"""Point 93: the worked examples that need nothing but what is there."""
+"""Point 93: the worked examples that need nothing but what is there, and those of README.md."""
 
+import contextlib
+import io
+import os
+import re
 import unittest
 
 from helpers import check_raises
+from stillinstep.bills import dearest
+from stillinstep.crews import bits_crew
 from stillinstep.errors import BadExpression, NeedsRule
 from stillinstep.expressions import value_of
+from stillinstep.leasts import least
 from stillinstep.lines import read_program
+from stillinstep.machines import Machine, start_cells
 from stillinstep.parts import code_of, line_of
 from stillinstep.plain import after_step
 from stillinstep.reading import read_expression
+from stillinstep.runs import run_storm
+from stillinstep.storms import calm_storm
+from stillinstep.traces import trace_lines
 from stillinstep.writing import write_expression
 
 TEXT = "lanes 2\narray a 2\nstep a[me] := a[me] + a[1 - me]"
@@ -35,6 +46,44 @@ class Examples(unittest.TestCase):
 
     def test_a_line(self):
         self.assertEqual(line_of(read_expression("2 * (me - 1) + lanes"), 4), (2, 2))
+
+    def test_a_crew(self):
+        crew = bits_crew(2, bits=1)
+        self.assertEqual((crew.seats, crew.leanings), ((0, 2), ((0, 0, 0), (1, 0, 0))))
+
+    def test_a_trace(self):
+        machine = Machine(read_program(TEXT), bits_crew(1, bits=1))
+        self.assertEqual(trace_lines(machine, start_cells(machine, (3, 4)), ("++", "+1", "+-")), (
+            "tick 0 part 1 look 0: ++ 0=take 1=take", "tick 1 part 1 look 0: +1 0=work@2",
+            "tick 2 part 1 look 0: +- 0=up@2"))
+
+    def test_cells(self):
+        machine = Machine(read_program(TEXT), bits_crew(1, bits=1))
+        self.assertEqual(run_storm(machine, start_cells(machine, (3, 4)), ("++", "+1", "+-")).cells, (
+            (3, 4), (0, 7, 1, 0), (0, 0, 0, 0), (0, 0, 1, 0), (0, 0), (0, 0), (1, 3), (1, 1), (0, 0)))
+
+    def test_a_report(self):
+        machine = Machine(read_program(TEXT), bits_crew(1, bits=1))
+        report = run_storm(machine, start_cells(machine, (3, 4)), calm_storm(2, 8))
+        self.assertEqual([report.ended, report.bill, report.parts, report.steps],
+                         [True, 16, ((1, 0, 8, 3), (2, 1, 8, 7)), ((0, (7, 7)),)])
+
+    def test_bills(self):
+        crew = bits_crew(1, bits=1)
+        self.assertEqual((least(crew, (1, 1)), dearest(crew, (1, 1))), (6, 11))
+
+
+class ReadMe(unittest.TestCase):
+    def test_what_is_printed(self):
+        path = os.path.join(os.path.dirname(os.path.abspath(__file__)), "..", "README.md")
+        with open(path, encoding="utf-8") as file:
+            code = "\n".join(re.findall("```python\n(.*?)```", file.read(), re.DOTALL))
+        printed = io.StringIO()
+        with contextlib.redirect_stdout(printed):
+            exec(compile(code, path, "exec"), {})
+        told = re.findall("^print.*  # (.*)$", code, re.MULTILINE)
+        self.assertEqual(printed.getvalue().splitlines(), told)
+        self.assertEqual(len(told), code.count("print("))
 
 
 if __name__ == "__main__":

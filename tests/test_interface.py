@@ -4,7 +4,11 @@ import importlib
 import inspect
 import unittest
 
+from stillinstep.crews import Crew, bits_crew
+from stillinstep.machines import Machine, start_cells
 from stillinstep.programs import Program
+from stillinstep.runs import Report, run_storm
+from stillinstep.ticks import each_tick
 
 FUNCTIONS = {
     "clipping": {"clip": "(number)"},
@@ -21,6 +25,24 @@ FUNCTIONS = {
               "arrays_written": "(program, index)", "surely_apart": "(program, index)",
               "parts_of": "(program, index)", "code_of": "(program)"},
     "lines": {"read_program": "(text)"},
+    "trees": {"depth_of": "(node)", "is_under": "(node, top)"},
+    "crews": {"leaning_child": "(crew, worker, node)", "seated": "(crew, node)", "unseated_nodes": "(crew)",
+              "bits_crew": "(height, *, bits)"},
+    "walks": {"start_standing": "(crew)", "walk_turn": "(crew, works, standing, worker)",
+              "walk_tick": "(crew, works, standing, workers)"},
+    "machines": {"jobs_at": "(machine, leaf)", "start_cells": "(machine, data)", "current_part": "(cells)",
+                 "has_ended": "(machine, cells)"},
+    "jobs": {"job_writes": "(machine, cells, code_index, lane)"},
+    "turns": {"turn_of": "(machine, cells, worker)"},
+    "storms": {"check_storm": "(storm, workers)", "finishers": "(word)", "storm_of": "(rows, workers)",
+               "calm_storm": "(workers, ticks)", "made_writes": "(writes, sign)"},
+    "ticks": {"merged": "(rows)", "after_tick": "(machine, cells, word)", "each_tick": "(machine, cells, storm)",
+              "standing_of": "(machine, cells)"},
+    "runs": {"run_storm": "(machine, cells, storm)"},
+    "traces": {"trace_lines": "(machine, cells, storm)"},
+    "bills": {"dearest": "(crew, works, *, standing=None)", "tick_choice": "(crew, works, standing)",
+              "dearest_storm": "(crew, works, *, standing=None)"},
+    "leasts": {"least": "(crew, works)", "least_storm": "(crew, works)"},
 }
 
 
@@ -39,6 +61,26 @@ class Interface(unittest.TestCase):
         self.assertEqual(Program.__module__, "stillinstep.programs")
         made = importlib.import_module("stillinstep.lines").read_program("lanes 1\narray a 1\nstep a[0] := 1")
         self.assertEqual(set(vars(made)), {"lanes", "arrays", "body"})
+
+    def test_crew(self):
+        self.assertEqual(Crew.__module__, "stillinstep.crews")
+        self.assertEqual(str(inspect.signature(Crew)), "(height, seats, leanings)")
+        self.assertEqual(set(vars(Crew(1, [0], [[0]]))), {"height", "seats", "leanings"})
+        self.assertIsInstance(vars(Crew)["workers"], property)
+        self.assertIsInstance(vars(Crew)["leaves"], property)
+        self.assertIn("__eq__", vars(Crew))
+
+    def test_machine_and_report(self):
+        self.assertEqual((Machine.__module__, Report.__module__), ("stillinstep.machines", "stillinstep.runs"))
+        self.assertEqual(str(inspect.signature(Machine)), "(program, crew)")
+        made = importlib.import_module("stillinstep.lines").read_program("lanes 1\narray a 1\nstep a[0] := 1")
+        machine = Machine(made, bits_crew(1, bits=0))
+        self.assertEqual(set(vars(machine)), {"program", "crew", "code", "steps", "slots", "works"})
+        report = run_storm(machine, start_cells(machine, (0,)), ())
+        self.assertEqual(set(vars(report)), {"cells", "ended", "bill", "parts", "steps", "turns"})
+
+    def test_each_tick_is_a_generator(self):
+        self.assertTrue(inspect.isgeneratorfunction(each_tick))
 
 
 if __name__ == "__main__":

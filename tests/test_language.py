@@ -10,7 +10,8 @@ import stillinstep
 FOLDER = os.path.dirname(stillinstep.__file__)
 BUILTINS = {
     "len", "range", "enumerate", "zip", "min", "max", "sum", "abs", "sorted", "reversed", "int", "str", "bool", "list",
-    "tuple", "dict", "set", "isinstance", "ord", "repr", "any", "all", "divmod", "ValueError", "KeyError", "TypeError",
+    "tuple", "dict", "set", "isinstance", "ord", "property", "repr", "any", "all", "divmod", "ValueError", "KeyError",
+    "TypeError",
 }
 METHODS = {
     "append", "clear", "copy", "count", "endswith", "extend", "find", "get", "index", "insert", "isalnum", "isalpha",
@@ -78,12 +79,15 @@ class Language(unittest.TestCase):
                 self.assertLessEqual(len(text.split("\n")), 399)
                 self.assertLessEqual(max(len(line) for line in text.split("\n")), 120)
                 self.assertTrue(all(sign == "\n" or " " <= sign <= "~" for sign in text))
-                self.assertNotIn("%", text)
+        for where, node in self.nodes(ast.Constant):
+            self.assertNotIn("%", node.value if isinstance(node.value, str) else "", where)
 
     def test_functions_are_small_and_plain(self):
         for where, node in self.nodes(ast.FunctionDef):
             self.assertLessEqual(node.end_lineno - node.lineno + 1, 40, where)
-            self.assertEqual(node.decorator_list, [], where)
+            if node.decorator_list:
+                self.assertEqual([ast.unparse(part) for part in node.decorator_list], ["property"], where)
+                self.assertEqual(ast.unparse(node.args), "self", where)
             if node.name.startswith("__"):
                 self.assertIn(node.name, ("__init__", "__eq__"), where)
 
@@ -168,11 +172,53 @@ class Language(unittest.TestCase):
                 if isinstance(sign, (ast.Is, ast.IsNot)):
                     self.assertIsInstance(side, ast.Constant, where)
         for where, node in self.nodes(ast.expr):
-            self.assertNotIsInstance(node, (ast.GeneratorExp, ast.Await, ast.Yield, ast.NamedExpr), where)
+            self.assertNotIsInstance(node, (ast.GeneratorExp, ast.Await, ast.YieldFrom, ast.NamedExpr), where)
             if isinstance(node, ast.Constant):
                 self.assertNotIsInstance(node.value, (float, complex), where)
             if isinstance(node, ast.BinOp):
                 self.assertNotIsInstance(node.op, (ast.Div, ast.MatMult), where)
+                if isinstance(node.op, ast.Pow):
+                    self.assertIsInstance(node.right, ast.Constant, where)
+                    self.assertLessEqual(node.right.value, 64, where)
+
+    def test_properties(self):
+        """A property is only read, and it modifies nothing."""
+        names = set()
+        for where, node in self.nodes(ast.FunctionDef):
+            if node.decorator_list:
+                names.add(node.name)
+                for part in ast.walk(node):
+                    self.assertFalse(isinstance(getattr(part, "ctx", None), (ast.Store, ast.Del)), where)
+                    if isinstance(part, ast.Call):
+                        self.assertIsInstance(part.func, ast.Name, where)
+        for where, node in self.nodes(ast.Attribute):
+            self.assertFalse(node.attr in names and not isinstance(node.ctx, ast.Load), where)
+        for where, node in self.nodes(ast.Call):
+            self.assertFalse(isinstance(node.func, ast.Attribute) and node.func.attr in names, where)
+
+    def test_generators(self):
+        """Each yield is a statement of its own in a function at module level that returns no value."""
+        for tree in self.trees.values():
+            yields = {id(node) for node in ast.walk(tree) if isinstance(node, ast.Yield)}
+            for function in [node for node in tree.body if isinstance(node, ast.FunctionDef)]:
+                own = {id(node.value) for node in ast.walk(function) if isinstance(node, ast.Expr)} & yields
+                returns = [node.value for node in ast.walk(function) if isinstance(node, ast.Return)]
+                self.assertTrue(not own or not any(returns))
+                yields -= own
+            self.assertEqual(yields, set())
+
+    def test_imports_are_used(self):
+        for name, tree in self.trees.items():
+            words = {node.id for node in ast.walk(tree) if isinstance(node, ast.Name)}
+            for node in tree.body:
+                if isinstance(node, ast.ImportFrom):
+                    self.assertLessEqual({alias.name for alias in node.names}, words, name)
+
+    def test_keywords_of_builtins(self):
+        known = {"sorted": {"reverse"}, "enumerate": {"start"}, "sum": {"start"}, "zip": {"strict"}}
+        for where, node in self.nodes(ast.Call):
+            if isinstance(node.func, ast.Name) and node.func.id in BUILTINS:
+                self.assertLessEqual({word.arg for word in node.keywords}, known.get(node.func.id, set()), where)
 
     def test_sets_are_only_sorted_or_measured(self):
         for tree in self.trees.values():
