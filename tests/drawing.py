@@ -2,7 +2,9 @@
 
 from stillinstep.crews import Crew
 from stillinstep.lines import read_program
+from stillinstep.reading import read_expression
 from stillinstep.walks import start_standing, walk_tick
+from stillinstep.ways import TableWay, Way
 
 SIGNS = "+-0123456789"
 
@@ -48,16 +50,16 @@ def drawn_standings(chance, crew, works):
 ARRAYS = ("a", "b", "c")
 
 
-def drawn_expression(chance, names, deep):
-    """The text of an expression over these names and the arrays a, b and c."""
+def drawn_expression(chance, names, deep, arrays=ARRAYS):
+    """The text of an expression over these names and arrays."""
     kind = chance.randrange(8) if deep > 0 else chance.randrange(2)
     if kind == 0:
         return str(chance.choice((0, 1, 2, 3, 5, 7, 10 ** 12)))
     if kind == 1:
         return chance.choice(names)
-    parts = [drawn_expression(chance, names, deep - 1) for _ in range(3)]
+    parts = [drawn_expression(chance, names, deep - 1, arrays) for _ in range(3)]
     if kind in (2, 3):
-        return f"{chance.choice(ARRAYS)}[{parts[0]}]"
+        return f"{chance.choice(arrays)}[{parts[0]}]"
     if kind == 4:
         return f"pick({parts[0]}, {parts[1]}, {parts[2]})"
     if kind == 5:
@@ -113,3 +115,38 @@ def drawn_data(chance, program):
     """A memory of a program."""
     many = sum(size for _, size in program.arrays)
     return tuple(chance.choice((0, 0, 1, 2, 3, 5, -1, -4, 10 ** 12, -10 ** 12)) for _ in range(many))
+
+
+def drawn_way_text(chance, arrays):
+    """The text of an expression of a way over these arrays."""
+    text = drawn_expression(chance, ("me", "workers", "places", "left"), 2, arrays)
+    return chance.choice(("{}", "nth({})", "nth(({}) mod left)", "({}) mod places", "(me + {}) mod workers")).format(text)
+
+
+def drawn_way(chance, notes=None):
+    """A way by expressions, with this number of note cells."""
+    notes = chance.randint(0, 4) if notes is None else notes
+    arrays = ("place", "note") if notes else ("place",)
+    place = read_expression(drawn_way_text(chance, arrays))
+    if notes == 0 or chance.random() < 0.2:
+        return Way(place, notes=notes)
+    return Way(place, notes=notes, note=[read_expression(drawn_way_text(chance, arrays)) for _ in range(2)])
+
+
+def drawn_table(chance, places=None, workers=None, busy=0.5):
+    """A table way, with this probability one under which nobody is idle."""
+    places = places or chance.randint(1, 4)
+    workers = workers or chance.randint(1, 5)
+    is_busy = chance.random() < busy
+    rows = []
+    for number in range(2 ** places):
+        left = [place for place in range(places) if not number >> place & 1]
+        wishes = left if is_busy and left else range(-1, places)
+        rows.append([chance.choice(wishes) for _ in range(workers)])
+    return TableWay(places, rows)
+
+
+def drawn_state(chance, places, notes):
+    """Any state, whether a storm reaches it or not."""
+    numbers = (0, 0, 1, 2, 5, -1, -7, 10 ** 12, -10 ** 12)
+    return (tuple(chance.randrange(2) for _ in range(places)), tuple(chance.choice(numbers) for _ in range(notes)))

@@ -78,3 +78,8 @@ def with_region(cells, region, numbers):
 def region_of(cells, region):
     """The numbers of a region."""
     return cells[REGIONS.index(region)]
+
+
+def as_lists(value):
+    """A value with a list in the place of each tuple, at every level."""
+    return [as_lists(item) for item in value] if isinstance(value, (tuple, list)) else value

@@ -7,10 +7,12 @@ import re
 import unittest
 
 from helpers import check_raises
+from stillinstep.accounts import account_bill, account_of
 from stillinstep.bills import dearest
 from stillinstep.crews import bits_crew
 from stillinstep.errors import BadExpression, NeedsRule
 from stillinstep.expressions import value_of
+from stillinstep.forms import bits_bill, calm_ticks, floor_bill
 from stillinstep.leasts import least
 from stillinstep.lines import read_program
 from stillinstep.machines import Machine, start_cells
@@ -20,6 +22,7 @@ from stillinstep.reading import read_expression
 from stillinstep.runs import run_storm
 from stillinstep.storms import calm_storm
 from stillinstep.traces import trace_lines
+from stillinstep.wholes import run_bounds
 from stillinstep.writing import write_expression
 
 TEXT = "lanes 2\narray a 2\nstep a[me] := a[me] + a[1 - me]"
@@ -68,9 +71,21 @@ class Examples(unittest.TestCase):
         self.assertEqual([report.ended, report.bill, report.parts, report.steps],
                          [True, 16, ((1, 0, 8, 3), (2, 1, 8, 7)), ((0, (7, 7)),)])
 
+    def test_bounds_of_a_run(self):
+        machine = Machine(read_program(TEXT), bits_crew(1, bits=1))
+        self.assertEqual(run_bounds(machine, (3, 4), most=5), (12, 22))
+
+    def test_an_account(self):
+        storm = ("++", "+-", "+-", "+-", "++", "++", "++")
+        self.assertEqual(account_bill(account_of(bits_crew(1, bits=1), (1, 1), storm)), 11)
+
     def test_bills(self):
         crew = bits_crew(1, bits=1)
         self.assertEqual((least(crew, (1, 1)), dearest(crew, (1, 1))), (6, 11))
+
+    def test_formulas(self):
+        self.assertEqual((bits_bill(4, bits=4, work=1), floor_bill(4, workers=16, work=1),
+                          calm_ticks(4, bits=4, work=1)), (553, 553, 10))
 
 
 class ReadMe(unittest.TestCase):

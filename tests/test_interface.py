@@ -9,6 +9,7 @@ from stillinstep.machines import Machine, start_cells
 from stillinstep.programs import Program
 from stillinstep.runs import Report, run_storm
 from stillinstep.ticks import each_tick
+from stillinstep.ways import TableWay, Way
 
 FUNCTIONS = {
     "clipping": {"clip": "(number)"},
@@ -43,6 +44,17 @@ FUNCTIONS = {
     "bills": {"dearest": "(crew, works, *, standing=None)", "tick_choice": "(crew, works, standing)",
               "dearest_storm": "(crew, works, *, standing=None)"},
     "leasts": {"least": "(crew, works)", "least_storm": "(crew, works)"},
+    "forms": {"bits_bill": "(height, *, bits, work)", "floor_bill": "(height, *, workers, work)",
+              "calm_ticks": "(height, *, bits, work)"},
+    "accounts": {"account_of": "(crew, works, storm)", "account_bill": "(account)",
+                 "is_account": "(crew, works, account)"},
+    "wholes": {"run_bounds": "(machine, data, *, most)", "dearest_run": "(machine, data, *, most)",
+               "least_run": "(machine, data, *, most)"},
+    "rounds": {"ends_in_rounds": "(machine, data, *, first, again, most)",
+               "rounds_to_end": "(machine, data, *, first, again, most)"},
+    "sharing": {"start_state": "(way, places)", "wish_of": "(way, places, workers, state, worker)",
+                "after_share": "(way, places, workers, state, word)",
+                "share_run": "(way, places, workers, storm)"},
 }
 
 
@@ -78,6 +90,15 @@ class Interface(unittest.TestCase):
         self.assertEqual(set(vars(machine)), {"program", "crew", "code", "steps", "slots", "works"})
         report = run_storm(machine, start_cells(machine, (0,)), ())
         self.assertEqual(set(vars(report)), {"cells", "ended", "bill", "parts", "steps", "turns"})
+
+    def test_ways(self):
+        self.assertEqual((Way.__module__, TableWay.__module__), ("stillinstep.ways", "stillinstep.ways"))
+        self.assertEqual(str(inspect.signature(Way)), "(place, *, notes=0, note=None)")
+        self.assertEqual(str(inspect.signature(TableWay)), "(places, rows)")
+        self.assertEqual(set(vars(Way(("number", 0)))), {"place", "notes", "note"})
+        self.assertEqual(set(vars(TableWay(1, [[0], [0]]))), {"places", "rows"})
+        self.assertIn("__eq__", vars(Way))
+        self.assertIn("__eq__", vars(TableWay))
 
     def test_each_tick_is_a_generator(self):
         self.assertTrue(inspect.isgeneratorfunction(each_tick))
