@@ -54,6 +54,14 @@ def is_plain_word(token):
     return is_word(token) and token not in SPECIAL_WORDS
 
 
+def is_number_run(run):
+    """Whether a text is a number up to the limit, written without leading zeros."""
+    # The length is asked first: Python refuses to read very long numbers.
+    if run == "" or len(run) > len(str(LIMIT)) or not all([sign in DIGITS for sign in run]):
+        return False
+    return run == "0" or (run[0] != "0" and int(run) <= LIMIT)
+
+
 def _token_at(text, at):
     if text[at] in WORD_SIGNS:
         run = _run_at(text, at)
@@ -73,7 +81,4 @@ def _run_at(text, at):
 def _is_good_run(run):
     if run[0] in LETTERS:
         return len(run) <= LONGEST_WORD
-    # The length is asked first: Python refuses to read very long numbers.
-    if len(run) > len(str(LIMIT)) or not all([sign in DIGITS for sign in run]):
-        return False
-    return run == "0" or (run[0] != "0" and int(run) <= LIMIT)
+    return is_number_run(run)

@@ -1,4 +1,4 @@
-"""Point 93: the worked examples that need nothing but what is there, and those of README.md."""
+"""Point 93: the worked examples, and those of README.md."""
 
 import contextlib
 import io
@@ -19,9 +19,13 @@ from stillinstep.machines import Machine, start_cells
 from stillinstep.parts import code_of, line_of
 from stillinstep.plain import after_step
 from stillinstep.reading import read_expression
+from stillinstep.runners import even_way, worth
 from stillinstep.runs import run_storm
+from stillinstep.sharing import share_run
 from stillinstep.storms import calm_storm
+from stillinstep.tables import dearest_table, table_of
 from stillinstep.traces import trace_lines
+from stillinstep.ways import TableWay
 from stillinstep.wholes import run_bounds
 from stillinstep.writing import write_expression
 
@@ -86,6 +90,18 @@ class Examples(unittest.TestCase):
     def test_formulas(self):
         self.assertEqual((bits_bill(4, bits=4, work=1), floor_bill(4, workers=16, work=1),
                           calm_ticks(4, bits=4, work=1)), (553, 553, 10))
+
+    def test_worths(self):
+        self.assertEqual([worth(1, 3), worth(2, 2), worth(4, 4), worth(8, 8)], [3, 3, 9, 24])
+
+    def test_a_run_of_sharing(self):
+        self.assertEqual(share_run(even_way(), 2, 2, ("+-", "++")), (((1, 1), ()), 3, 2))
+
+    def test_a_table(self):
+        self.assertEqual(dearest_table(table_of(even_way(), 2, 2)), 3)
+
+    def test_an_endless_table(self):
+        self.assertIs(dearest_table(TableWay(1, [[-1, 0], [0, 0]])), None)
 
 
 class ReadMe(unittest.TestCase):

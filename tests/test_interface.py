@@ -55,6 +55,17 @@ FUNCTIONS = {
     "sharing": {"start_state": "(way, places)", "wish_of": "(way, places, workers, state, worker)",
                 "after_share": "(way, places, workers, state, word)",
                 "share_run": "(way, places, workers, storm)"},
+    "runners": {"worth": "(places, workers)", "fullest_storm": "(way, places, workers)", "even_way": "()",
+                "halving_storm": "(way, places, workers)"},
+    "tables": {"table_of": "(way, places, workers)", "dearest_table": "(table)", "table_paper": "(table)",
+               "is_table_paper": "(table, paper)", "table_storm": "(table)", "endless_storm": "(table)"},
+    "samples": {"sums_text": "(n)", "sort_text": "(n)", "ranks_text": "(n)", "ways_text": "(n)",
+                "groups_text": "(n, m)", "counts_text": "(n, k)", "top_text": "(n)", "brackets_text": "(n)",
+                "cells_text": "(n, rule, rounds)", "order_text": "(n)", "adds_text": "(n)"},
+    "waytexts": {"write_way": "(way)", "read_way": "(text)"},
+    "crewtexts": {"write_crew": "(crew)", "read_crew": "(text)", "write_storm": "(storm)",
+                  "read_storm": "(text, *, workers)"},
+    "celltexts": {"write_cells": "(machine, cells)", "read_cells": "(machine, text)"},
 }
 
 
