@@ -172,7 +172,12 @@ class Language(unittest.TestCase):
                 if isinstance(sign, (ast.Is, ast.IsNot)):
                     self.assertIsInstance(side, ast.Constant, where)
         for where, node in self.nodes(ast.expr):
-            self.assertNotIsInstance(node, (ast.GeneratorExp, ast.Await, ast.YieldFrom, ast.NamedExpr), where)
+            self.assertNotIsInstance(node, (ast.GeneratorExp, ast.Await, ast.YieldFrom, ast.NamedExpr, ast.Lambda), where)
+            if isinstance(node, ast.JoinedStr):
+                self.assertEqual(node.lineno, node.end_lineno, where)
+            if isinstance(node, ast.Call):
+                behind_stars = [part.value for part in node.args if isinstance(part, ast.Starred)]
+                self.assertFalse([part for part in behind_stars if not isinstance(part, (ast.Name, ast.Attribute))], where)
             if isinstance(node, ast.Constant):
                 self.assertNotIsInstance(node.value, (float, complex), where)
             if isinstance(node, ast.BinOp):
@@ -180,6 +185,23 @@ class Language(unittest.TestCase):
                 if isinstance(node.op, ast.Pow):
                     self.assertIsInstance(node.right, ast.Constant, where)
                     self.assertLessEqual(node.right.value, 64, where)
+
+    def test_what_is_iterated_at_once(self):
+        """A range, zip or view stands where it is iterated; only a range may be kept, under a name of its own."""
+        takers = ("list", "tuple", "dict", "sorted", "sum", "any", "all", "enumerate", "zip", "min", "max")
+        for name, tree in self.trees.items():
+            above = {child: node for node in ast.walk(tree) for child in ast.iter_child_nodes(node)}
+            for node in ast.walk(tree):
+                if not isinstance(node, ast.Call):
+                    continue
+                word = getattr(node.func, "id", getattr(node.func, "attr", ""))
+                if word not in ("range", "zip", "enumerate", "reversed", "items", "keys", "values", "each_tick"):
+                    continue
+                up = above[node]
+                good = isinstance(up, (ast.For, ast.comprehension)) and up.iter is node
+                good = good or (isinstance(up, ast.Call) and getattr(up.func, "id", "") in takers)
+                good = good or (word == "range" and isinstance(up, (ast.Assign, ast.Compare)))
+                self.assertTrue(good, f"{name} line {node.lineno}")
 
     def test_properties(self):
         """A property is only read, and it modifies nothing."""
